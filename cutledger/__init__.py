@@ -1,0 +1,1 @@
+"""Cutledger: a store that is cut off anywhere and comes back."""

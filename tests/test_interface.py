@@ -1,0 +1,132 @@
+"""The names, arguments and kinds of values of the interface, and what point 1 says of all functions."""
+
+import copy
+import importlib
+import inspect
+import unittest
+
+from cutledger.blocks import block_of
+from cutledger.disks import blank_disk
+from cutledger.lives import after
+from helpers import CHECK, NEVER, SYNC, TIDY, write
+
+INTERFACE = {
+    "bytecodes": {
+        "number_to": "value", "fixed_to": "value, many", "text_to": "text", "thing_to": "thing", "number_from": "row, at",
+        "fixed_from": "row, at, many", "text_from": "row, at", "thing_from": "row, at",
+    },
+    "checksums": {
+        "check_of": "row", "sealed": "row", "flipped": "row, flips", "is_sealed": "row", "is_unseen": "length, flips",
+        "least_unseen": "length",
+    },
+    "blocks": {
+        "block_of": "stamp, label", "torn": "old, new, cells", "label_of": "block", "stamps_of": "block", "is_never": "block",
+    },
+    "disks": {
+        "blocks": "shape", "page_place": "shape, number", "ring_place": "shape, number", "next_stamp": "shape, image",
+        "next_epoch": "shape, image", "blank_disk": "shape", "kinds": "shape, image", "changed": "state, batch",
+    },
+    "recovery": {
+        "head_of": "shape, image", "log_of": "shape, image", "end_of": "shape, image", "used": "shape, image",
+        "floor_of": "shape, image", "state_as_of": "shape, image, commit", "recovered": "shape, image", "sound": "shape, image",
+    },
+    "lives": {"steps": "shape, image, deeds", "ends": "shape, image, deeds", "after": "shape, image, deeds"},
+    "cuts": {
+        "waiting": "shape, image, deeds, count", "promise": "shape, image, deeds, count", "cut_image": "shape, image, deeds, cut",
+        "can_come": "shape, image, deeds, count", "fates_for": "shape, image, deeds, count, commit",
+        "shows_fates": "shape, image, deeds, count, commit, value",
+    },
+    "odds": {
+        "ways": "shape, image, deeds, count", "chances": "shape, image, deeds, count, sure",
+        "mean_lost": "shape, image, deeds, count, sure",
+    },
+}
+
+SHAPE = (3, 5)
+BLANK = blank_disk(SHAPE)
+DEEDS = (write((0, (1,)), (2, (2,))), SYNC, write((1, (3,))), TIDY, CHECK, write((0, (4,))))
+IMAGE = after(SHAPE, BLANK, (write((1, (9,))), CHECK, write((2, (8,)))))
+LABEL = ("part", 0, 1, 1, 1, 0, (5,))
+BLOCK = block_of(3, LABEL)
+ARGUMENTS = {
+    "value": 300, "many": 2, "text": "ab", "thing": (1, ("a", ())), "row": (2, 1, 0, 5), "at": 0, "flips": (1, 5, 9), "length": 4,
+    "stamp": 7, "label": LABEL, "old": NEVER, "new": BLOCK, "cells": 3, "block": BLOCK, "shape": SHAPE, "number": 1, "image": IMAGE,
+    "state": ((), (1,), ()), "batch": ((0, (2,)), (2, ())), "commit": 2, "deeds": DEEDS, "count": 2, "cut": (2, (8, 0)),
+    "sure": (1, 3),
+}
+
+
+def functions():
+    """Each function of the interface with its file and the names of its arguments."""
+    for file, rows in INTERFACE.items():
+        module = importlib.import_module(f"cutledger.{file}")
+        for name, names in rows.items():
+            yield file, getattr(module, name), names
+
+
+class Interface(unittest.TestCase):
+    def test_names_and_arguments(self):
+        for file, function, names in functions():
+            with self.subTest(function.__name__):
+                self.assertEqual(", ".join(inspect.signature(function).parameters), names)
+                self.assertTrue(inspect.isfunction(function))
+                self.assertEqual(function.__module__, f"cutledger.{file}")
+
+    def test_arguments_by_name(self):
+        for _, function, names in functions():
+            given = {name: ARGUMENTS[name] for name in names.split(", ")}
+            if function.__name__ == "text_from":
+                given["row"] = (1, 5)
+            self.assertEqual(function(**given), function(*given.values()))
+
+
+class Answers(unittest.TestCase):
+    def given(self, function, names):
+        if function.__name__ == "text_from":
+            return [(1, 5), 0]
+        return [ARGUMENTS[name] for name in names.split(", ")]
+
+    def test_arguments_are_not_modified_and_equal_arguments_have_equal_answers(self):
+        for _, function, names in functions():
+            with self.subTest(function.__name__):
+                given = self.given(function, names)
+                kept = copy.deepcopy(given)
+                first = function(*given)
+                self.assertEqual(given, kept)
+                self.assertEqual(repr(function(*kept)), repr(first))
+
+    def test_answers_are_made_of_tuples(self):
+        def plain(value):
+            if isinstance(value, tuple):
+                return all(plain(part) for part in value)
+            return value is None or isinstance(value, (int, str, bool))
+
+        for _, function, names in functions():
+            with self.subTest(function.__name__):
+                self.assertTrue(plain(function(*self.given(function, names))))
+
+    def test_truths_are_true_or_false(self):
+        for name, file in [("is_sealed", "checksums"), ("is_unseen", "checksums"), ("is_never", "blocks"), ("sound", "recovery"),
+                           ("shows_fates", "cuts")]:
+            function = getattr(importlib.import_module(f"cutledger.{file}"), name)
+            answer = function(*self.given(function, INTERFACE[file][name]))
+            self.assertIn(answer, [True, False])
+            self.assertIsInstance(answer, bool)
+
+    def test_wrong_lists_and_dicts_are_not_modified(self):
+        for _, function, names in functions():
+            many = len(names.split(", "))
+            for at in range(many):
+                for wrong in [[], [1, [2]], {}, {"a": [1]}, ([], {}), (("sync",), ["sync"])]:
+                    given = self.given(function, names)
+                    given[at] = wrong
+                    kept = copy.deepcopy(given)
+                    try:
+                        function(*given)
+                    except ValueError:
+                        pass
+                    self.assertEqual(given, kept)
+
+
+if __name__ == "__main__":
+    unittest.main()
