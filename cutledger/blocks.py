@@ -38,7 +38,7 @@ def is_label(value):
         return False
     kind, index, many, epoch, commit, number, content = value
     return (
-        isinstance(kind, str) and kind in KINDS
+        kind in KINDS
         and is_integer(index, 0, 255) and is_integer(many, 0, 255)
         and is_integer(epoch, 0, GREATEST) and is_integer(commit, 0, GREATEST)
         and is_integer(number, 0, 65535)

@@ -58,9 +58,8 @@ def differences(numbers):
 
 
 def moment_and_chances(shape, image, deeds, count, sure):
-    """The moment behind a count, and the chances times a denominator that S, .., W or a later one comes back.
-
-    The last of the three is that denominator; each error of these arguments is raised.
+    """The moment behind a count; for each commit from S to W the chance that it or a later one comes back,
+    as a numerator; and the denominator of them all. Each error of these arguments is raised.
     """
     moment = moment_at(shape, image, deeds, count)
     if not is_chance(sure):

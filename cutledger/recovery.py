@@ -113,12 +113,10 @@ class Reading:
 
     def told_from(self, number):
         """The least commit as of which a page is told; Harmed if the last one read is too little."""
-        own = self.own_page(number)
-        if own is not None and own[0] <= self.first:
-            return self.first
         commits = [row[0] for row in self.log if number in [pair[0] for pair in row[3]]]
+        own = self.own_page(number)
         if own is not None and own[0] <= self.commit:
-            commits.append(own[0])
+            commits.append(max(own[0], self.first))
         if not commits:
             raise Harmed(number)
         return min(commits)
