@@ -17,23 +17,24 @@ TIDY = ("tidy",)
 class Life:
     """A life at work on what its disk would be if all its steps were done.
 
-    at is the ring's next block, left how many blocks of the ring are left, fresh has the pages of the
-    commits since the head. written has, for each write, how many steps there are up to its end, and its
-    batch. A step whose block would need a number that is too great has None in the block's place, and
-    is_over is set: so the steps can still be counted, and errors that come first can be told.
+    last is the last commit and standing the state behind it; at is the ring's next block, left how many
+    blocks of the ring are left, fresh has the pages of the commits since the head. written has, for each
+    write, how many steps there are up to its end, and its batch. A step whose block would need a number
+    that is too great has None in the block's place, and is_over is set: so the steps can still be counted,
+    and errors that come first can be told.
     """
 
     def __init__(self, shape, image, reading):
         self.shape = shape
         self.first_image = image
-        self.first_commit = reading.commit
-        self.first_state = reading.state_of(reading.commit)
+        self.first_commit = reading.last
+        self.first_state = reading.state_of(reading.last)
         self.stamp = stamp_behind(image)
         self.epoch = epoch_behind(reading.labels)
         self.kinds = list(reading.kinds)
         self.head_place = reading.head_place
-        self.commit = reading.commit
-        self.state = self.first_state
+        self.last = reading.last
+        self.standing = self.first_state
         self.at = reading.at
         self.left = reading.left
         self.fresh = {pair[0]: True for row in reading.log for pair in row[3]}
@@ -44,7 +45,7 @@ class Life:
 
     def put(self, place, label):
         """Write a block with a label to a place."""
-        if max(self.stamp, self.epoch, self.commit) > GREATEST:
+        if max(self.stamp, self.epoch, self.last) > GREATEST:
             self.is_over = True
         block = None if self.is_over else make_block(self.stamp, label)
         self.stamp += 1
@@ -65,14 +66,14 @@ class Life:
 
     def write(self, batch):
         """Commit a batch to the log."""
-        self.commit += 1
+        self.last += 1
         for index, (number, page) in enumerate(batch):
             place = place_in_ring(self.shape, self.at + index)
-            self.put(place, ("part", index, len(batch), self.epoch, self.commit, number, page))
+            self.put(place, ("part", index, len(batch), self.epoch, self.last, number, page))
             self.fresh[number] = True
         self.at = (self.at + len(batch)) % self.shape[1]
         self.left -= len(batch)
-        self.state = with_batch(self.state, batch)
+        self.standing = with_batch(self.standing, batch)
         self.written.append((len(self.steps), batch))
 
     def sync(self):
@@ -83,11 +84,11 @@ class Life:
         """Copy the pages of the log to their places, and begin the log anew with another head."""
         self.sync()
         for number in sorted(self.fresh):
-            page = self.state[number]
-            self.put(place_of_page(number), ("page", 0, 1, self.epoch, self.commit, number, page))
+            page = self.standing[number]
+            self.put(place_of_page(number), ("page", 0, 1, self.epoch, self.last, number, page))
         self.sync()
         place = 1 if self.head_place == 0 else 0
-        self.put(place, ("head", 0, 1, self.epoch, self.commit, self.at, ()))
+        self.put(place, ("head", 0, 1, self.epoch, self.last, self.at, ()))
         self.sync()
         self.head_place = place
         self.left = self.shape[1]
@@ -98,7 +99,7 @@ class Life:
         for further in range(self.left):
             place = place_in_ring(self.shape, self.at + further)
             if self.kinds[place] not in ("never", "blank"):
-                self.put(place, ("blank", 0, 1, self.epoch, self.commit, 0, ()))
+                self.put(place, ("blank", 0, 1, self.epoch, self.last, 0, ()))
         self.sync()
 
     def disk(self):
@@ -132,7 +133,11 @@ def check_deeds(shape, deeds):
 
 def lived(shape, image, deeds):
     """The life of deeds; each error of its arguments is raised but TooMany, which check_numbers raises."""
-    reading = read_sound_image(shape, image)
+    return lived_on(shape, image, read_sound_image(shape, image), deeds)
+
+
+def lived_on(shape, image, reading, deeds):
+    """The life of deeds on an image that has been read; the errors of the deeds are raised but TooMany."""
     check_deeds(shape, deeds)
     life = Life(shape, image, reading)
     for index, deed in enumerate(deeds):

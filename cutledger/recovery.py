@@ -9,7 +9,7 @@ from cutledger.values import is_integer
 class Reading:
     """An image that is read: its head, and its log as far as it goes.
 
-    first is the commit of the head and commit the last one read; at is the ring's next block, and left
+    first is the commit of the head and last the last one read; at is the ring's next block, and left
     how many blocks of the ring are left; ending tells why and where the log ends.
     """
 
@@ -22,7 +22,7 @@ class Reading:
         self.head_place = place
         self.epoch = epoch
         self.first = commit
-        self.commit = commit
+        self.last = commit
         self.at = number
         self.left = shape[1]
         self.log = []
@@ -74,7 +74,7 @@ class Reading:
         if kind in ("never", "torn", "blank"):
             return kind
         label = self.label_ahead(0)
-        if kind != "part" or label[1] != 0 or label[2] == 0 or label[4] != self.commit + 1:
+        if kind != "part" or label[1] != 0 or label[2] == 0 or label[4] != self.last + 1:
             return "other"
         if label[3] < self.epoch:
             return "elder"
@@ -96,8 +96,8 @@ class Reading:
         parts = [self.label_ahead(index) for index in range(first[2])]
         batch = tuple([(part[5], part[6]) for part in parts])
         self.epoch = first[3]
-        self.commit = first[4]
-        self.log.append((self.commit, self.epoch, self.at, batch))
+        self.last = first[4]
+        self.log.append((self.last, self.epoch, self.at, batch))
         self.at = (self.at + len(batch)) % self.shape[1]
         self.left -= len(batch)
 
@@ -115,7 +115,7 @@ class Reading:
         """The least commit as of which a page is told; Harmed if the last one read is too little."""
         commits = [row[0] for row in self.log if number in [pair[0] for pair in row[3]]]
         own = self.own_page(number)
-        if own is not None and own[0] <= self.commit:
+        if own is not None and own[0] <= self.last:
             commits.append(max(own[0], self.first))
         if not commits:
             raise Harmed(number)
@@ -146,7 +146,13 @@ def read_image(shape, image):
 
 def read_sound_image(shape, image):
     """The reading of an image that comes back; BadShape, BadImage or Harmed if there can be none."""
-    reading = read_image(shape, image)
+    check_disk(shape, image)
+    return sound_reading(shape, image)
+
+
+def sound_reading(shape, image):
+    """The reading of what is known to be an image of a shape; Harmed if it doesn't come back."""
+    reading = Reading(shape, image)
     reading.floor()
     return reading
 
@@ -180,7 +186,7 @@ def floor_of(shape, image):
 def state_as_of(shape, image, commit):
     """The state as of a commit from the floor to the last one read."""
     reading = read_image(shape, image)
-    if not is_integer(commit, reading.floor(), reading.commit):
+    if not is_integer(commit, reading.floor(), reading.last):
         raise BadCommit()
     return reading.state_of(commit)
 
@@ -188,7 +194,7 @@ def state_as_of(shape, image, commit):
 def recovered(shape, image):
     """What comes back: the last commit read, and the state as of it."""
     reading = read_sound_image(shape, image)
-    return (reading.commit, reading.state_of(reading.commit))
+    return (reading.last, reading.state_of(reading.last))
 
 
 def sound(shape, image):

@@ -18,4 +18,10 @@ def is_tuple_of(value, least, most):
 
 def are_bytes(value, least, most):
     """Whether a value is a tuple of so many integers from 0 to 255."""
-    return is_tuple_of(value, least, most) and all(is_integer(byte, 0, 255) for byte in value)
+    if not is_tuple_of(value, least, most):
+        return False
+    # Images have thousands of bytes, so each is looked at with no call of its own.
+    for byte in value:
+        if not isinstance(byte, int) or isinstance(byte, bool) or byte < 0 or byte > 255:
+            return False
+    return True

@@ -40,6 +40,16 @@ INTERFACE = {
         "ways": "shape, image, deeds, count", "chances": "shape, image, deeds, count, sure",
         "mean_lost": "shape, image, deeds, count, sure",
     },
+    "leaving": {"can_leave": "shape, image, deeds, other", "cut_to": "shape, image, deeds, other", "count_images": "shape, image, deeds"},
+    "stories": {
+        "left": "shape, story", "kept": "shape, story", "history": "shape, story", "is_kept": "shape, story",
+        "reach": "shape, story, deeds, count", "lost_by": "shape, story", "same_end": "shape, one, other",
+    },
+    "plans": {
+        "fewest_checks": "shape, batches", "least_blocks": "shape, batches", "cheapest": "shape, batches",
+        "shows_cheapest": "shape, batches, value", "with_syncs": "shape, image, deeds, most",
+    },
+    "dumps": {"write_deeds": "deeds", "read_deeds": "text", "show_image": "shape, image"},
 }
 
 SHAPE = (3, 5)
@@ -52,8 +62,20 @@ ARGUMENTS = {
     "value": 300, "many": 2, "text": "ab", "thing": (1, ("a", ())), "row": (2, 1, 0, 5), "at": 0, "flips": (1, 5, 9), "length": 4,
     "stamp": 7, "label": LABEL, "old": NEVER, "new": BLOCK, "cells": 3, "block": BLOCK, "shape": SHAPE, "number": 1, "image": IMAGE,
     "state": ((), (1,), ()), "batch": ((0, (2,)), (2, ())), "commit": 2, "deeds": DEEDS, "count": 2, "cut": (2, (8, 0)),
-    "sure": (1, 3),
+    "sure": (1, 3), "other": after(SHAPE, IMAGE, DEEDS), "most": 1, "batches": (((0, (1,)), (1, (2,))), ((2, (3,)),)),
+    "story": ((DEEDS, (2, (8, 8))), ((SYNC,), (1, ()))), "one": ((DEEDS, (2, (8, 8))),),
 }
+# Arguments that a function takes in another sense than others.
+OTHER_ARGUMENTS = {
+    "text_from": {"row": (1, 5)}, "read_deeds": {"text": "sync\nwrite 0:05"}, "same_end": {"other": ((DEEDS, (3, ())),)},
+    "reach": {"deeds": (SYNC, write((0, (1,)))), "count": 2},
+}
+
+
+def given_to(function, names):
+    """Right arguments of a function, by name."""
+    own = OTHER_ARGUMENTS.get(function.__name__, {})
+    return {name: own.get(name, ARGUMENTS[name]) for name in names.split(", ")}
 
 
 def functions():
@@ -74,17 +96,13 @@ class Interface(unittest.TestCase):
 
     def test_arguments_by_name(self):
         for _, function, names in functions():
-            given = {name: ARGUMENTS[name] for name in names.split(", ")}
-            if function.__name__ == "text_from":
-                given["row"] = (1, 5)
+            given = given_to(function, names)
             self.assertEqual(function(**given), function(*given.values()))
 
 
 class Answers(unittest.TestCase):
     def given(self, function, names):
-        if function.__name__ == "text_from":
-            return [(1, 5), 0]
-        return [ARGUMENTS[name] for name in names.split(", ")]
+        return list(given_to(function, names).values())
 
     def test_arguments_are_not_modified_and_equal_arguments_have_equal_answers(self):
         for _, function, names in functions():
@@ -94,6 +112,12 @@ class Answers(unittest.TestCase):
                 first = function(*given)
                 self.assertEqual(given, kept)
                 self.assertEqual(repr(function(*kept)), repr(first))
+
+    def test_answers_in_another_order_of_calls(self):
+        rows = list(functions())
+        first = [repr(function(*self.given(function, names))) for _, function, names in rows]
+        again = [repr(function(*self.given(function, names))) for _, function, names in reversed(rows)]
+        self.assertEqual(first, again[::-1])
 
     def test_answers_are_made_of_tuples(self):
         def plain(value):
@@ -107,7 +131,8 @@ class Answers(unittest.TestCase):
 
     def test_truths_are_true_or_false(self):
         for name, file in [("is_sealed", "checksums"), ("is_unseen", "checksums"), ("is_never", "blocks"), ("sound", "recovery"),
-                           ("shows_fates", "cuts")]:
+                           ("shows_fates", "cuts"), ("can_leave", "leaving"), ("is_kept", "stories"), ("same_end", "stories"),
+                           ("shows_cheapest", "plans")]:
             function = getattr(importlib.import_module(f"cutledger.{file}"), name)
             answer = function(*self.given(function, INTERFACE[file][name]))
             self.assertIn(answer, [True, False])

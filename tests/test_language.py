@@ -11,7 +11,7 @@ HERE = os.path.dirname(os.path.abspath(__file__))
 PACKAGE = os.path.join(os.path.dirname(HERE), "cutledger")
 LIBRARY = {"math": {"gcd", "lcm", "isqrt", "comb", "perm", "factorial"}}
 BUILTINS = set("""
-    len range enumerate zip min max sum abs sorted reversed int str bool list tuple dict isinstance ord repr any all divmod
+    len range enumerate zip min max sum abs sorted reversed int str bool list tuple dict set isinstance ord repr any all divmod
     ValueError KeyError
 """.split())
 METHODS = set("""
@@ -151,9 +151,9 @@ class Statements(unittest.TestCase):
         for name, node in everywhere(*UNUSED):
             self.fail(f"{name}: {ast.dump(node)[:80]}")
 
-    def test_functions_have_no_decorators_and_plain_parameters(self):
+    def test_functions_have_no_decorators_but_property_and_plain_parameters(self):
         for name, node in everywhere(ast.FunctionDef):
-            self.assertEqual(node.decorator_list, [])
+            self.assertIn([ast.unparse(one) for one in node.decorator_list], [[], ["property"]])
             given = node.args
             self.assertFalse(given.vararg or given.kwarg or given.kwonlyargs or given.posonlyargs or given.kw_defaults, name)
             self.assertFalse(node.returns or any(one.annotation for one in given.args))
@@ -173,12 +173,19 @@ class Statements(unittest.TestCase):
                 self.assertTrue(isinstance(part, ast.FunctionDef) or isinstance(part.value, ast.Constant))
 
     def test_handlers_name_own_errors(self):
+        own = bound_at_top(TREES["errors.py"])
         for name, node in everywhere(ast.ExceptHandler):
-            self.assertIsInstance(node.type, ast.Name)
-            self.assertIn(node.type.id, bound_at_top(TREES["errors.py"]))
-        for name, node in everywhere(ast.Raise):
-            self.assertTrue(isinstance(node.exc, ast.Call) and node.exc.func.id in bound_at_top(TREES["errors.py"]), name)
-            self.assertEqual(node.exc.keywords, [])
+            self.assertIsNone(node.name)
+            for caught in node.type.elts if isinstance(node.type, ast.Tuple) else [node.type]:
+                self.assertIn(caught.id, own, name)
+        for name, tree in TREES.items():
+            above = parents(tree)
+            for node in ast.walk(tree):
+                if isinstance(node, ast.Raise) and node.exc is None:
+                    self.assertIsInstance(above[node], ast.ExceptHandler, name)
+                elif isinstance(node, ast.Raise):
+                    self.assertTrue(isinstance(node.exc, ast.Call) and node.exc.func.id in own, name)
+                    self.assertEqual(node.exc.keywords, [])
 
 
 class Names(unittest.TestCase):
@@ -244,6 +251,14 @@ class Values(unittest.TestCase):
                         self.assertFalse(set(re.findall(r"\w+", node.value)) & BARRED_WORDS, name)
             words = [node.id for node in ast.walk(tree) if isinstance(node, ast.Name)]
             self.assertFalse(set(words) & BARRED_WORDS, name)
+
+    def test_sets_are_used_at_once(self):
+        for name, tree in TREES.items():
+            above = parents(tree)
+            for node in ast.walk(tree):
+                if isinstance(node, ast.Call) and called(node) == "set":
+                    place = above[node]
+                    self.assertTrue(isinstance(place, ast.Call) and called(place) in ("len", "sorted"), (name, node.lineno))
 
     def test_is(self):
         for name, node in everywhere(ast.Compare):
