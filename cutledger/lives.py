@@ -94,13 +94,25 @@ class Life:
         self.left = self.shape[1]
         self.fresh = {}
 
+    def untidy(self):
+        """The places, round the ring, of the blocks that are left and have something written to them."""
+        places = [place_in_ring(self.shape, self.at + further) for further in range(self.left)]
+        return [place for place in places if self.kinds[place] not in ("never", "blank")]
+
     def tidy(self):
         """Write blanks to the blocks of the ring that are left."""
-        for further in range(self.left):
-            place = place_in_ring(self.shape, self.at + further)
-            if self.kinds[place] not in ("never", "blank"):
-                self.put(place, ("blank", 0, 1, self.epoch, self.last, 0, ()))
+        for place in self.untidy():
+            self.put(place, ("blank", 0, 1, self.epoch, self.last, 0, ()))
         self.sync()
+
+    def begin_anew(self):
+        """Go on as a life that begins here, where no block waits, with the stamps and the epoch of this one."""
+        self.first_image = self.disk()
+        self.first_commit = self.last
+        self.first_state = self.standing
+        self.steps = []
+        self.deed_ends = []
+        self.written = []
 
     def disk(self):
         """The image when all steps are done."""

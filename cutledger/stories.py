@@ -13,7 +13,7 @@ MOST_LIVES = 8
 class Walk:
     """A story as far as it has been walked.
 
-    disk is the image that its last cut left, reading what it tells, last and standing the commit and the
+    last_image is the image that its last cut left, reading what it tells, last and standing the commit and the
     state that come back from it, batches those of the commits that came back. commits has, for each life, the
     commit that came back behind it, losses how many were lost; is_right tells whether each time what came back
     was promised.
@@ -36,14 +36,14 @@ class Walk:
 
     def come_back(self, image):
         """Go on with an image, and with what comes back from it."""
-        self.disk = image
+        self.last_image = image
         self.reading = sound_reading(self.shape, image)
         self.last = self.reading.last
         self.standing = self.reading.state_of(self.last)
 
     def live(self, deeds, cut):
         """Live once more and be cut; the errors of the deeds and of the cut are raised."""
-        life = lived_on(self.shape, self.disk, self.reading, deeds)
+        life = lived_on(self.shape, self.last_image, self.reading, deeds)
         moment = moment_of_cut(life, cut)
         self.come_back(moment.image_left(cut[1]))
         self.batches = (*self.batches, *[batch for _, batch in life.written])[:self.last]
@@ -71,7 +71,7 @@ def walked(shape, story):
 
 def left(shape, story):
     """The image at the end of a story."""
-    return walked(shape, story).disk
+    return walked(shape, story).last_image
 
 
 def kept(shape, story):
@@ -92,7 +92,7 @@ def is_kept(shape, story):
 def reach(shape, story, deeds, count):
     """The commits that come back behind a story with one life more, for all cuts of a count."""
     walk = walked(shape, story)
-    moment = moment_at(shape, walk.disk, deeds, count)
+    moment = moment_at(shape, walk.last_image, deeds, count)
     return tuple(range(moment.safe, moment.whole + 1))
 
 

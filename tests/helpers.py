@@ -31,7 +31,7 @@ def fails(name, function, *arguments):
     return False
 
 
-def bad(name, **fields):
+def bad(name, /, **fields):
     """What `told` tells of an error."""
     return (name, fields)
 

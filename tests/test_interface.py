@@ -50,6 +50,28 @@ INTERFACE = {
         "shows_cheapest": "shape, batches, value", "with_syncs": "shape, image, deeds, most",
     },
     "dumps": {"write_deeds": "deeds", "read_deeds": "text", "show_image": "shape, image"},
+    "cellcodes": {"row_key": "kinds, values", "row_of_key": "kinds, key"},
+}
+
+# Functions that are passed a page set, which they may change.
+OF_PAGE_SETS = {
+    "trees": {
+        "new_tree": "pages", "find": "pages, root, key", "put_in": "pages, root, key, value", "drop_from": "pages, root, key",
+        "entries": "pages, root, low, high", "nodes_of": "pages, root", "height": "pages, root", "leave_tree": "pages, root",
+        "packed": "pages, root",
+    },
+}
+CLASSES = {
+    ("pagestores", "PageStore"): ("shape, image=None", {
+        "write": "batch", "sync": "", "check": "", "tidy": "", "read": "number", "as_of": "commit", "image": "", "cut": "fates",
+    }, ("commit", "state", "free", "waiting", "sure")),
+    ("pagesets", "PageSet"): ("state, free", {
+        "get": "number", "put": "number, page", "take": "", "leave": "number", "batch": "", "whole_state": "",
+    }, ("free",)),
+    ("tables", "Tables"): ("pages", {
+        "make": "schema", "make_index": "index", "make_guard": "guard", "remove": "name", "schemas": "", "indexes": "", "guards": "",
+        "put": "table, row", "get": "table, key", "drop": "table, key", "rows": "table, low, high", "rows_by": "index, low, high",
+    }, ()),
 }
 
 SHAPE = (3, 5)
@@ -64,6 +86,7 @@ ARGUMENTS = {
     "state": ((), (1,), ()), "batch": ((0, (2,)), (2, ())), "commit": 2, "deeds": DEEDS, "count": 2, "cut": (2, (8, 0)),
     "sure": (1, 3), "other": after(SHAPE, IMAGE, DEEDS), "most": 1, "batches": (((0, (1,)), (1, (2,))), ((2, (3,)),)),
     "story": ((DEEDS, (2, (8, 8))), ((SYNC,), (1, ()))), "one": ((DEEDS, (2, (8, 8))),),
+    "kinds": ("number", "text", "truth"), "values": (-5, "a~", False), "key": (15, 66, 59, 65, 94, 0, 1),
 }
 # Arguments that a function takes in another sense than others.
 OTHER_ARGUMENTS = {
@@ -93,6 +116,25 @@ class Interface(unittest.TestCase):
                 self.assertEqual(", ".join(inspect.signature(function).parameters), names)
                 self.assertTrue(inspect.isfunction(function))
                 self.assertEqual(function.__module__, f"cutledger.{file}")
+
+    def test_functions_of_page_sets(self):
+        for file, rows in OF_PAGE_SETS.items():
+            for name, names in rows.items():
+                function = getattr(importlib.import_module(f"cutledger.{file}"), name)
+                self.assertEqual(", ".join(inspect.signature(function).parameters), names)
+                self.assertTrue(inspect.isfunction(function))
+                self.assertEqual(function.__module__, f"cutledger.{file}")
+
+    def test_classes(self):
+        for (file, name), (arguments, methods, properties) in CLASSES.items():
+            one = getattr(importlib.import_module(f"cutledger.{file}"), name)
+            self.assertEqual(one.__module__, f"cutledger.{file}")
+            for method, names in {"__init__": arguments, **methods}.items():
+                self.assertTrue(inspect.isfunction(vars(one)[method]))
+                told_names = str(inspect.signature(vars(one)[method])).strip("()")
+                self.assertEqual(told_names, f"self, {names}" if names else "self", (name, method))
+            for known in properties:
+                self.assertIsInstance(vars(one)[known], property)
 
     def test_arguments_by_name(self):
         for _, function, names in functions():

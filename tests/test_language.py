@@ -11,7 +11,7 @@ HERE = os.path.dirname(os.path.abspath(__file__))
 PACKAGE = os.path.join(os.path.dirname(HERE), "cutledger")
 LIBRARY = {"math": {"gcd", "lcm", "isqrt", "comb", "perm", "factorial"}}
 BUILTINS = set("""
-    len range enumerate zip min max sum abs sorted reversed int str bool list tuple dict set isinstance ord repr any all divmod
+    len range enumerate zip min max sum abs sorted reversed int str bool list tuple dict set property isinstance ord repr any all divmod
     ValueError KeyError
 """.split())
 METHODS = set("""
@@ -227,6 +227,29 @@ class Names(unittest.TestCase):
             if called(node) in BUILTINS | METHODS:
                 self.assertTrue(set(word.arg for word in node.keywords) <= {"default", "start"}, name)
 
+    def test_properties_are_neither_assigned_nor_called(self):
+        known = [node.name for _, node in everywhere(ast.FunctionDef) if node.decorator_list]
+        methods = [node.name for _, tree in everywhere(ast.ClassDef) for node in tree.body
+                   if isinstance(node, ast.FunctionDef) and not node.decorator_list]
+        self.assertFalse(set(known) & (set(methods) | METHODS))
+        for name, node in everywhere(ast.Attribute):
+            self.assertFalse(node.attr in known and isinstance(node.ctx, ast.Store), (name, node.attr))
+        for name, node in everywhere(ast.Call):
+            self.assertFalse(isinstance(node.func, ast.Attribute) and node.func.attr in known, (name, node.lineno))
+
+    def test_properties_only_return(self):
+        for name, node in everywhere(ast.FunctionDef):
+            if node.decorator_list:
+                self.assertTrue(len(node.body) == 2 and isinstance(node.body[1], ast.Return), (name, node.name))
+                for part in ast.walk(node.body[1]):
+                    if isinstance(part, ast.Call):
+                        self.assertIn(called(part), ("len", "tuple"))
+
+    def test_a_name_is_not_a_method_here_and_an_attribute_there(self):
+        methods = set(part.name for _, node in everywhere(ast.ClassDef) for part in node.body if isinstance(part, ast.FunctionDef))
+        stored = set(node.attr for _, node in everywhere(ast.Attribute) if isinstance(node.ctx, ast.Store))
+        self.assertEqual(methods & stored, set())
+
     def test_attributes_that_are_read_are_assigned(self):
         stored = set(node.attr for _, node in everywhere(ast.Attribute) if isinstance(node.ctx, ast.Store))
         own = set(node.name for _, node in everywhere(ast.FunctionDef))
@@ -246,11 +269,15 @@ class Values(unittest.TestCase):
             for node in ast.walk(tree):
                 if isinstance(node, ast.Constant) and isinstance(node.value, str):
                     self.assertNotIn("%", node.value, name)
-                    self.assertNotIn("\\", node.value, name)
                     if node not in docstrings:
                         self.assertFalse(set(re.findall(r"\w+", node.value)) & BARRED_WORDS, name)
             words = [node.id for node in ast.walk(tree) if isinstance(node, ast.Name)]
             self.assertFalse(set(words) & BARRED_WORDS, name)
+
+    def test_escapes(self):
+        for name in TREES:
+            for escape in re.findall(r"\\(.)", read(name), re.DOTALL):
+                self.assertIn(escape, "nt\\\"'", name)
 
     def test_sets_are_used_at_once(self):
         for name, tree in TREES.items():
