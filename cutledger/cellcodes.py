@@ -7,7 +7,7 @@ from cutledger.values import are_bytes, is_integer
 NUMBER = "number"
 TEXT = "text"
 TRUTH = "truth"
-KINDS = (NUMBER, TEXT, TRUTH)
+KINDS = ("number", "text", "truth")
 
 GREATEST = 1000000
 NUMBER_BYTES = 3

@@ -10,7 +10,7 @@ DIGITS = "0123456789abcdef"
 LONGEST_NUMBER = 2
 
 # Deeds without a shape may write each page that some store has.
-WIDEST_SHAPE = (MOST_PAGES, 2)
+WIDEST_SHAPE = (64, 2)
 
 
 def digits_of(row):

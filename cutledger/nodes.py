@@ -6,7 +6,7 @@ MOST_NUMBERS = 96
 LONGEST_SHORT = 20
 LEAF = 0
 INNER = 1
-NO_ENTRIES = (LEAF, 0)
+NO_ENTRIES = (0, 0)
 
 # Ahead of the entries or the children of a node stand its kind and how many they are.
 AHEAD = 2

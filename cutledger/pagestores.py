@@ -2,7 +2,7 @@
 
 from cutledger.blocks import GREATEST
 from cutledger.cuts import Moment, are_fates
-from cutledger.disks import blank_disk, check_batch_of, check_shape
+from cutledger.disks import blank_disk, check_batch_of
 from cutledger.errors import BadCommit, BadCut, BadNumber, RingFull, TooMany
 from cutledger.lives import Life
 from cutledger.recovery import read_sound_image
@@ -17,7 +17,6 @@ class PageStore:
     """
 
     def __init__(self, shape, image=None):
-        check_shape(shape)
         begun = blank_disk(shape) if image is None else image
         reading = read_sound_image(shape, begun)
         self.life = Life(shape, begun, reading)

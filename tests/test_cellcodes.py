@@ -101,6 +101,8 @@ class WrongValues(unittest.TestCase):
         for kinds in [*NO_TUPLES, ("Number",), (None,), (5,), (("number",),), ["number"], "number", ("number", None), ({},), ([],)]:
             self.assertEqual(told(row_key, kinds, (5,)), bad("BadRow"))
             self.assertEqual(told(row_of_key, kinds, (15, 66, 64)), bad("BadRow"))
+            self.assertEqual(told(row_key, kinds, (True,)), bad("BadRow"))
+            self.assertEqual(told(row_of_key, kinds, (1,)), bad("BadRow"))
 
     def test_bytes_that_are_none_of_values(self):
         for kinds, keys in [

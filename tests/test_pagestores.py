@@ -285,6 +285,27 @@ class WrongValues(unittest.TestCase):
                 self.assertEqual(store.image(), image)
             self.assertIsNone(store.sync())
 
+    def test_numbers_that_are_just_great_enough(self):
+        shape = (1, 4)
+        store = PageStore(shape, with_blocks(shape, {6: (MOST - 3, blank(0, 0))}))
+        self.assertEqual(store.write(((0, (1,)),)), 1)
+        self.assertIsNone(store.check())
+        self.assertEqual(recovered(shape, store.image()), (1, ((1,),)))
+        self.assertEqual(told(store.check), bad("TooMany", most=MOST))
+        image = with_blocks(shape, {0: (5, ("head", 0, 1, 1, MOST - 1, 0, ()))})
+        store = PageStore(shape, image)
+        self.assertEqual(store.write(((0, ()),)), MOST)
+        self.assertEqual(told(store.write, ((0, ()),)), bad("TooMany", most=MOST))
+        self.assertIsNone(store.check())
+
+    def test_a_tidy_that_writes_nothing_needs_no_numbers(self):
+        shape = (1, 4)
+        image = with_blocks(shape, {0: (MOST, ("head", 0, 1, MOST, 1, 0, ())), 4: (4, blank(1, 1))})
+        store = PageStore(shape, image)
+        self.assertIsNone(store.tidy())
+        self.assertEqual(store.image(), image)
+        self.assertEqual(told(store.check), bad("TooMany", most=MOST))
+
 
 if __name__ == "__main__":
     unittest.main()

@@ -471,6 +471,18 @@ class Rooms(unittest.TestCase):
         self.assertGreater(beside.refused, 0)
         beside.compare(beside.tables, random.Random(1))
 
+    def test_a_catalogue_that_has_room_for_a_part_of_a_guard(self):
+        long = ("aaaaaaaa", "bbbbbbbb", "cccccccc")
+        refused = 0
+        for many in range(30):
+            beside = Beside(self, PageSet(((),) * 2, (1,)))
+            beside.make(("a", tuple((name, "truth") for name in long), 1))
+            beside.make_guard(("g" * (1 + many % 8), "a", long[:1 + many // 8 % 3], None))
+            beside.make_guard(("h" * (1 + many % 8), "a", long, None))
+            refused += beside.refused
+            beside.compare(beside.tables, random.Random(many))
+        self.assertGreater(refused, 0)
+
 
 class WrongSchemas(unittest.TestCase):
     def setUp(self):
@@ -530,6 +542,17 @@ class WrongSchemas(unittest.TestCase):
         wrong += [("n", "t", (name,)) for name in BAD_NAMES]
         for index in wrong:
             self.assertEqual(told(self.tables.make_index, index), bad("BadSchema"), index)
+
+    def test_no_more_than_three_columns(self):
+        tables = Tables(blank_pages())
+        names = ("a", "b", "c", "d")
+        tables.make(("n", tuple((name, "truth") for name in names), 1))
+        before = seen(tables.pages)
+        self.assertEqual(told(tables.make_index, ("i", "n", names)), bad("BadSchema"))
+        self.assertEqual(told(tables.make_guard, ("i", "n", names, None)), bad("BadSchema"))
+        self.assertEqual(seen(tables.pages), before)
+        tables.make_index(("i", "n", names[1:]))
+        tables.make_guard(("j", "n", names[1:], None))
 
     def test_indexes_that_cannot_stand(self):
         for index in [("n", "t", ("x",)), ("n", "t", ("b", "z")), ("n", "u", ("x",)), ("n", "u", ("y", "x"))]:

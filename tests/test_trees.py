@@ -526,6 +526,8 @@ class WrongValues(unittest.TestCase):
             for call, rest in [(find, ((),)), (put_in, ((), ())), (drop_from, ((),)), (entries, (None, None)), (nodes_of, ()),
                                (height, ()), (leave_tree, ()), (packed, ())]:
                 self.assertEqual(told(call, self.pages, root, *rest), bad("BadNumber"))
+            for call, rest in [(find, ([],)), (put_in, (None, [])), (put_in, ((), None)), (drop_from, (5,)), (entries, (5, 5))]:
+                self.assertEqual(told(call, self.pages, root, *rest), bad("BadNumber"))
 
     def test_the_longest_that_may_stand(self):
         pages = blank_pages(2)
