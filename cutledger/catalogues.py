@@ -61,6 +61,15 @@ def guard_row(guard):
     return (GUARD, len(others), *names_code([guard[1], *others, *guard[2]]))
 
 
+def rows_by_name(pairs):
+    """The row of bytes of each name that entries of a catalogue tell of."""
+    rows = {}
+    for key, value in pairs:
+        name = read_names(key[:-1])[0][0]
+        rows[name] = (*rows.get(name, ()), *value)
+    return rows
+
+
 class Catalogue:
     """What a catalogue tells, by name: pairs of schema and root, pairs of index and root, and guards."""
 
@@ -68,10 +77,7 @@ class Catalogue:
         self.held_tables = {}
         self.held_indexes = {}
         self.held_guards = {}
-        rows = {}
-        for key, value in entries(pages, CATALOGUE, None, None):
-            name = read_names(key[:-1])[0][0]
-            rows[name] = (*rows.get(name, ()), *value)
+        rows = rows_by_name(entries(pages, CATALOGUE, None, None))
         for name in rows:
             self.tell(name, rows[name])
 
@@ -120,11 +126,17 @@ class Catalogue:
         return [guard[0] for guard in guards if name in (guard[1], guard[3])]
 
 
+def row_entries(name, row):
+    """The entries of the catalogue for the row of bytes of a name."""
+    code = name_code(name, 0)
+    parts = [row[begin:begin + LONGEST_SHORT] for begin in range(0, len(row), LONGEST_SHORT)]
+    return [((*code, number), part) for number, part in enumerate(parts)]
+
+
 def tell_more(pages, name, row):
     """Put the row of bytes of a name into the catalogue."""
-    code = name_code(name, 0)
-    for part, begin in enumerate(range(0, len(row), LONGEST_SHORT)):
-        put_in(pages, CATALOGUE, (*code, part), row[begin:begin + LONGEST_SHORT])
+    for key, part in row_entries(name, row):
+        put_in(pages, CATALOGUE, key, part)
 
 
 def tell_no_more(pages, name):

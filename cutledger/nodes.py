@@ -177,6 +177,19 @@ def read_inner(page):
     return Inner(children, bounds)
 
 
+def is_node(page):
+    """Whether a page has the form of a node: its kind, and as many children, keys and values as it tells."""
+    if len(page) < AHEAD or page[0] not in (LEAF, INNER) or page[:AHEAD] == (INNER, 0):
+        return False
+    children, shorts = (page[1], page[1] - 1) if page[0] == INNER else (0, 2 * page[1])
+    at = AHEAD + children
+    for _ in range(shorts):
+        if at >= len(page) or page[at] > LONGEST_SHORT:
+            return False
+        at += 1 + page[at]
+    return at == len(page)
+
+
 def read_node(page):
     """The node of a page."""
     return read_inner(page) if page[0] == INNER else read_leaf(page)

@@ -63,6 +63,9 @@ class Tables:
                 pages.take()
             pages.put(CATALOGUE, NO_ENTRIES)
 
+    def go_on(self):
+        """Tables, unlike works, are never over."""
+
     def check_free(self, told, name):
         """Raise Taken if a table, an index or a guard has a name."""
         if told.has(name):
@@ -142,6 +145,28 @@ class Tables:
             leave_tree(self.pages, root)
         for each in names:
             tell_no_more(self.pages, each)
+
+    def schema_of(self, table):
+        """The schema of a table."""
+        return Catalogue(self.pages).table_called(table)[0]
+
+    def index_called(self, name):
+        """The index with a name."""
+        return Catalogue(self.pages).index_called(name)[0]
+
+    def indexes_upon(self, table):
+        """The indexes of a table, names rising."""
+        return [pair[0] for pair in Catalogue(self.pages).indexes_of(table)]
+
+    def names_beside(self, name):
+        """The names that an index or a guard with a name names, none for other names."""
+        if not is_name(name):
+            return []
+        told = Catalogue(self.pages)
+        if name in told.held_indexes:
+            return [told.held_indexes[name][0][1]]
+        guard = told.held_guards.get(name, (None, None, None, None))
+        return [other for other in (guard[1], guard[3]) if other is not None]
 
     def schemas(self):
         """The schemas of all tables, names rising."""
