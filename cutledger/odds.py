@@ -46,9 +46,16 @@ def parts_up_to(moment):
 
 def ways(shape, image, deeds, count):
     """For each commit from S to W, with how many fates it comes back."""
-    moment = whole_moment_at(shape, image, deeds, count)
+    return ways_at(whole_moment_at(shape, image, deeds, count), 1, FATES)
+
+
+def ways_at(moment, done, fates):
+    """For each commit from S to W, in how many ways it comes back, if each block that waits has so many fates, so
+    many of which let it be done.
+    """
     # A commit or a later one comes back exactly if all its parts and those before them are done.
-    at_least = [power(FATES, len(moment.waits) - total) for total in parts_up_to(moment)]
+    waits = len(moment.waits)
+    at_least = [power(done, total) * power(fates, waits - total) for total in parts_up_to(moment)]
     return tuple(enumerate(differences(at_least), start=moment.safe))
 
 
@@ -57,30 +64,40 @@ def differences(numbers):
     return [number - behind for number, behind in zip(numbers, [*numbers[1:], 0])]
 
 
-def moment_and_chances(shape, image, deeds, count, sure):
-    """The moment behind a count; for each commit from S to W the chance that it or a later one comes back,
-    as a numerator; and the denominator of them all. Each error of these arguments is raised.
-    """
+def moment_with_chance(shape, image, deeds, count, sure):
+    """The moment behind a count, asked for a chance; each error of these arguments is raised."""
     moment = moment_at(shape, image, deeds, count)
     if not is_chance(sure):
         raise BadRatio()
     check_numbers(moment.life)
+    return moment
+
+
+def chances_at_least(moment, sure):
+    """For each commit from S to W the chance that it or a later one comes back, as a numerator, if each block is
+    done with a chance, and the denominator of them all.
+    """
     done, denominator = sure
     totals = parts_up_to(moment)
     many = totals[-1]
     at_least = [power(done, total) * power(denominator, many - total) for total in totals]
-    return (moment, at_least, power(denominator, many))
+    return (at_least, power(denominator, many))
 
 
-def chances(shape, image, deeds, count, sure):
+def chances_at(moment, sure):
     """For each commit from S to W, the chance that it comes back if each block is done with a chance."""
-    moment, at_least, whole = moment_and_chances(shape, image, deeds, count, sure)
+    at_least, whole = chances_at_least(moment, sure)
     each = [lowest(part, whole) for part in differences(at_least)]
     return tuple(enumerate(each, start=moment.safe))
 
 
+def chances(shape, image, deeds, count, sure):
+    """For each commit from S to W, the chance that it comes back if each block is done with a chance."""
+    return chances_at(moment_with_chance(shape, image, deeds, count, sure), sure)
+
+
 def mean_lost(shape, image, deeds, count, sure):
     """The mean of how many of the commits up to W don't come back."""
-    _, at_least, whole = moment_and_chances(shape, image, deeds, count, sure)
+    at_least, whole = chances_at_least(moment_with_chance(shape, image, deeds, count, sure), sure)
     # Each commit behind S is lost unless it or a later one comes back.
     return lowest(sum([whole - part for part in at_least[1:]]), whole)
