@@ -80,8 +80,7 @@ def taken(work, statement, plain):
     # By the last column first: what an earlier one finds alike then stays in its order.
     for ordering, is_down in reversed(told_order):
         rows = ordered(source, rows, ordering, is_down)
-    if first is not None:
-        rows = rows[:first]
+    rows = rows if first is None else rows[:first]
     if told_columns is None:
         return rows
     return [tuple([source.value_at(column, row) for column in told_columns]) for row in rows]
@@ -162,7 +161,6 @@ def set_rows(work, statement, plain):
 
 def answered(work, statement, plain=False):
     """The answer of a statement in a work; plain looks at all rows."""
-    work.go_on()
     word = statement[0]
     if word == "take":
         return taken(work, statement, plain)

@@ -1,40 +1,49 @@
 """What a work has looked at, and what another one has done there (point 47)."""
 
 from cutledger.guards import values_of
-from cutledger.schemas import is_name, kinds_of
-from cutledger.tables import bound_key
+from cutledger.schemas import is_name, key_kinds, kinds_of, places_of
+from cutledger.tables import bound_key, key_of
 from cutledger.trees import is_within
 
 
 class Span:
-    """All rows of a table whose values in some columns are not below low and below high."""
+    """All rows of a table whose key is not below low and below high, or whose values in the columns of an index are.
+
+    names has the columns of the index; it is None for the key.
+    """
 
     def __init__(self, schema, names, low, high):
-        self.schema = schema
+        self.table = schema[0]
         self.names = names
-        kinds = kinds_of(schema, names)
-        self.low = bound_key(kinds, low)
-        self.high = bound_key(kinds, high)
+        self.kinds = key_kinds(schema) if names is None else kinds_of(schema, names)
+        self.low = bound_key(self.kinds, low)
+        self.high = bound_key(self.kinds, high)
+
+    def place_in(self, schema, row):
+        """The bytes that tell where a row of the table lies here, None if it lies nowhere.
+
+        The work may have made the table anew, so what a row has need not be what was looked at.
+        """
+        if self.names is None:
+            return key_of(schema, row)
+        if None in places_of(schema, self.names) or kinds_of(schema, self.names) != self.kinds:
+            return None
+        return bound_key(self.kinds, values_of(schema, self.names, row))
 
     def holds(self, schema, row):
         """Whether a row of a table with a schema lies here."""
-        if schema != self.schema:
+        if schema[0] != self.table:
             return False
-        kinds = kinds_of(schema, self.names)
-        return is_within(bound_key(kinds, values_of(schema, self.names, row)), self.low, self.high)
+        place = self.place_in(schema, row)
+        return place is not None and is_within(place, self.low, self.high)
 
 
 def span_of_key(schema, key):
     """The span of one key."""
-    span = Span(schema, key_names(schema), key, key)
+    span = Span(schema, None, key, key)
     # No tuple lies between the bytes of the key and these.
     span.high = (*span.low, 0)
     return span
-
-
-def key_names(schema):
-    """The names of the columns of the key."""
-    return tuple([pair[0] for pair in schema[1][:schema[2]]])
 
 
 class Looks:

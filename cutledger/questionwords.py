@@ -8,14 +8,12 @@ WORD = "word"
 NUMBER = "number"
 TEXT = "text"
 SIGN = "sign"
-WRONG = "wrong"
 END = "end"
 
 FIGURES = "0123456789"
 BLANK = " "
 QUOTE = "'"
 LONG_SIGNS = ("<>", "<=", ">=")
-SHORT_SIGNS = "(),=<>+-*."
 
 WORDS = (
     "make", "index", "remove", "put", "drop", "set", "take", "count", "sum", "least", "most", "from", "where", "and",
@@ -70,10 +68,9 @@ def read_token(text, at):
         end = run_end(text, at, signs)
         if end > at:
             return (Token(form, at, text[at:end]), end)
-    if text[at:at + 2] in LONG_SIGNS:
-        return (Token(SIGN, at, text[at:at + 2]), at + 2)
-    form = SIGN if text[at] in SHORT_SIGNS else WRONG
-    return (Token(form, at, text[at]), at + 1)
+    # Any other sign is one, too, though there may be no place where it can stand.
+    end = at + 2 if text[at:at + 2] in LONG_SIGNS else at + 1
+    return (Token(SIGN, at, text[at:end]), end)
 
 
 def tokens_of(text):

@@ -41,7 +41,6 @@ class Source:
     def worth_with_table(self, worth):
         """A worth with the table of its column."""
         if worth[0] == VALUE:
-            kind_of(worth[1])
             return worth
         if worth[0] == COLUMN:
             return self.with_table(worth)

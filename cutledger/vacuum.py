@@ -38,20 +38,19 @@ def free_pages(state):
 
 
 def page_set_of(state):
-    """The page set of what is known to be a state, its free pages void."""
+    """The page set of a state, its free pages void."""
     free = free_pages(state)
     kept = tuple([() if number in free else page for number, page in enumerate(state)])
     return PageSet(kept, free)
 
 
 def tables_of(state):
-    """The tables of what is known to be a state."""
+    """The tables of a state."""
     return Tables(PageSet(state, free_pages(state)))
 
 
 def tightened(state):
     """A state with the same tables and indexes, all trees packed, all other pages void."""
-    check_state(state)
     pages = page_set_of(state)
     later = []
     for root in roots_in(pages):

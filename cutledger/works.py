@@ -2,7 +2,7 @@
 
 from cutledger.errors import Broken, Clash, Ended, NoRoom, RingFull, TooWide
 from cutledger.ledgers import DROP, MAKE, MAKE_GUARD, MAKE_INDEX, PUT, REMOVE, Ledger, do_again
-from cutledger.looks import Effect, Looks, Span, key_names, span_of_key
+from cutledger.looks import Effect, Looks, Span, span_of_key
 from cutledger.pagestores import PageStore
 from cutledger.schemas import is_guard, is_index, is_schema
 from cutledger.vacuum import tables_of
@@ -11,9 +11,8 @@ from cutledger.vacuum import tables_of
 class Work:
     """A work upon the tables of a base as they were when it began.
 
-    tables has them with the work's own changes, calls the calls that made these, in order; own_tables has the
-    names of the tables that the work has made itself, where no other work's rows lie. begun_commit was the last
-    commit when the work began, and begun_effects how many commits of works there were.
+    tables has them with the work's own changes, calls the calls that made these, in order. begun_commit was the
+    last commit when the work began, and begun_effects how many commits of works there were.
     """
 
     def __init__(self, base):
@@ -23,18 +22,12 @@ class Work:
         self.begun_effects = len(base.effects)
         self.looks = Looks()
         self.calls = []
-        self.own_tables = {}
         self.is_over = False
 
     def go_on(self):
         """Raise Ended if the work is over."""
         if self.is_over:
             raise Ended()
-
-    def look(self, span):
-        """Have looked at a span."""
-        if span.schema[0] not in self.own_tables:
-            self.looks.spans.append(span)
 
     def schema_of(self, table):
         """The schema of a table."""
@@ -53,7 +46,6 @@ class Work:
         if is_schema(schema):
             self.looks.use([schema[0]])
         self.tables.make(schema)
-        self.own_tables[schema[0]] = True
         self.calls.append((MAKE, schema))
 
     def make_index(self, index):
@@ -110,14 +102,14 @@ class Work:
         """The row with a tuple of key values, None without."""
         schema = self.schema_of(table)
         row = self.tables.get(table, key)
-        self.look(span_of_key(schema, key))
+        self.looks.spans.append(span_of_key(schema, key))
         return row
 
     def drop(self, table, key):
         """Take away the row with a tuple of key values; whether there was one."""
         schema = self.schema_of(table)
         was_there = self.tables.drop(table, key)
-        self.look(span_of_key(schema, key))
+        self.looks.spans.append(span_of_key(schema, key))
         self.calls.append((DROP, table, key))
         return was_there
 
@@ -125,7 +117,7 @@ class Work:
         """The rows of a table whose keys are not below low and below high, keys rising."""
         schema = self.schema_of(table)
         rows = self.tables.rows(table, low, high)
-        self.look(Span(schema, key_names(schema), low, high))
+        self.looks.spans.append(Span(schema, None, low, high))
         return rows
 
     def rows_by(self, index, low, high):
@@ -134,7 +126,7 @@ class Work:
         self.looks.use([index, *self.tables.names_beside(index)])
         rows = self.tables.rows_by(index, low, high)
         held = self.tables.index_called(index)
-        self.look(Span(self.tables.schema_of(held[1]), held[2], low, high))
+        self.looks.spans.append(Span(self.tables.schema_of(held[1]), held[2], low, high))
         return rows
 
     def leave(self):
@@ -210,10 +202,11 @@ class Base:
         if broken is not None:
             raise Broken(broken)
         try:
-            batch = self.batch_of(calls)
-        except (NoRoom, TooWide):
-            # What was put and taken away again must not be what needs too many pages.
+            # What was put and taken away again changes no page, and needs none.
             batch = self.batch_of(ledger.fewest_calls())
+        except NoRoom:
+            # In the order in which there was room for them, there may be some again.
+            batch = self.batch_of(calls)
         if batch:
             self.write(batch)
             self.effects.append(Effect(ledger))

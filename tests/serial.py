@@ -56,7 +56,6 @@ class Shadow:
         self.used = set()
         self.looks = []
         self.saw_all = False
-        self.own = set()
         self.changes = False
 
     def names_of(self, name):
@@ -84,18 +83,15 @@ class Shadow:
         self.used.update(names)
         if word in ("schemas", "indexes", "guards"):
             self.saw_all = True
-        if fine and word in ("get", "drop") and call[1] not in self.own:
+        if fine and word in ("get", "drop"):
             self.looks.append((call[1], None, "is", call[2]))
-        if fine and word == "rows" and call[1] not in self.own:
+        if fine and word == "rows":
             self.looks.append((call[1], None, call[2], call[3]))
         if fine and word == "rows_by":
             index = [one for one in self.now().indexes() if one[0] == call[1]][0]
-            if index[1] not in self.own:
-                self.looks.append((index[1], index[2], call[2], call[3]))
+            self.looks.append((index[1], index[2], call[2], call[3]))
         if fine and word in CHANGING:
             self.changes = True
-        if fine and word == "make":
-            self.own.add(call[1][0])
         self.calls.append((call, answer))
 
     def clash(self):

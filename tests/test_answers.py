@@ -558,6 +558,15 @@ class WorksSideBySide(unittest.TestCase):
             self.assertEqual(self.clash(mine, "make other (a number key)"), 8, mine)
             self.assertEqual(self.clash(mine, "index other on pets (tame)"), 8, mine)
 
+    def test_plain_looks_at_all_rows(self):
+        for text in ("take * from pets where id = 1", "count from pets where age = 2"):
+            for plain in (False, True):
+                base = zoo()
+                work = base.begin()
+                answered(work, statement_of(text), plain)
+                said(base, "set pets age = 10 where id = 3")
+                self.assertEqual(told(work.finish), bad("Clash", table="pets") if plain else 6)
+
     def test_a_table_that_was_removed(self):
         for mine in ["take * from vets where id = 55", "drop from vets where id = 55", "set vets free = true where id = 55"]:
             self.assertEqual(self.clash(mine, "remove vets")[0], "Clash")

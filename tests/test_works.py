@@ -3,6 +3,7 @@ import unittest
 
 from cutledger.disks import blank_disk
 from cutledger.errors import CutError
+from cutledger.ledgers import Ledger, do_again
 from cutledger.works import Base, Work
 from helpers import ANYTHING, bad, told
 from serial import ERRORS, Serial, Shadow, content, first_broken
@@ -103,6 +104,23 @@ class OneWork(unittest.TestCase):
         self.assertEqual((same.finish(), gone.finish()), (3, 3))
         self.assertEqual((reading.finish(), idle.finish()), (1, 1))
         self.assertEqual((base.commit, base.begin().finish()), (3, 3))
+
+    def test_what_is_put_and_taken_away_again_changes_no_page(self):
+        for seed in range(20):
+            chosen = random.Random(3900 + seed)
+            base = base_with(*pets(*[(at, chosen.choice(("", "abcdefghij")), chosen.randrange(9)) for at in range(0, 60, 2)]), shape=(40, 40))
+            state = base.state
+            work = base.begin()
+            held = {row[0]: row for row in work.rows("pets", None, None)}
+            keys = [chosen.randrange(60) for _ in range(chosen.choice((1, 5, 20)))]
+            for key in keys:
+                do(work, chosen.choice([("drop", "pets", (key,)), ("put", "pets", (key, "zzzzzzzzzz", 9)), ("put", "pets", (key, "", 0))]))
+            do(work, ("make", KINDS), ("put", "vets", (1,)), ("make_index", ("i", "vets", ("id",))), ("make_guard", ("g", "pets", ("age",), "vets")))
+            chosen.shuffle(keys)
+            for key in keys:
+                do(work, ("put", "pets", held[key]) if key in held else ("drop", "pets", (key,)))
+            do(work, ("remove", "vets"))
+            self.assertEqual((work.finish(), base.commit, base.state), (1, 1, state))
 
     def test_a_call_that_is_refused_changes_nothing(self):
         base = base_with(*pets(*ROWS))
@@ -251,6 +269,9 @@ class Clashes(unittest.TestCase):
             ([("make_index", ("i", "pets", ("name",)))], [("make_index", ("i", "vets", ("id",)))], "i"),
             ([("make_index", ("i", "pets", ("name",)))], [("make_index", ("j", "pets", ("name",)))], None),
             ([("make_index", ("i", "vets", ("id",)))], [("remove", "vets")], "vets"),
+            ([("make_index", ("i", "pets", ("name",)))], [("make", ("i", (("k", "truth"),), 1))], "i"),
+            ([("make_guard", ("h", "pets", ("age",), "vets"))], [("make_guard", ("h", "vets", ("id",), None))], "h"),
+            ([("make_guard", ("h", "vets", ("id",), None))], [("remove", "vets")], "vets"),
             ([("make_guard", ("h", "pets", ("age",), "vets"))], [("remove", "vets")], "vets"),
             ([("make_guard", ("h", "vets", ("id",), "pets"))], [("remove", "pets")], "pets"),
             ([("make_guard", ("h", "vets", ("id",), None))], [("remove", "pets")], None),
@@ -294,10 +315,24 @@ class Clashes(unittest.TestCase):
         committed(base, self.CHANGE)
         self.assertEqual(told(work.finish), bad("Clash", table="pets"))
 
-    def test_a_table_of_ones_own(self):
-        again = ("pets", (("id", "text"),), 1)
-        self.check([("remove", "pets"), ("make", again), ("get", "pets", ("x",)), ("rows", "pets", None, None)], [self.CHANGE], None)
-        self.check([("get", "pets", (2,)), ("remove", "pets"), ("make", again)], [self.CHANGE], "pets")
+    def test_a_table_that_was_made_anew(self):
+        """What lay where a work has looked is told by the name of the table."""
+        again = [("remove", "pets"), ("make", PETS), ("make_index", ("j", "pets", ("age",)))]
+        for look in [("get", "pets", (2,)), ("drop", "pets", (2,)), ("rows", "pets", (2,), (3,)), ("rows_by", "j", (5,), (6,))]:
+            self.check([*again, look], [self.CHANGE], "pets")
+        for look in [("get", "pets", (3,)), ("rows", "pets", (3,), None), ("rows_by", "j", (6,), None)]:
+            self.check([*again, look], [self.CHANGE], None)
+        self.check([("get", "pets", (2,)), *again], [self.CHANGE], "pets")
+
+    def test_a_table_of_other_columns(self):
+        again = [("remove", "pets"), ("make", ("pets", (("sex", "truth"), ("age", "text")), 1)), ("make_index", ("j", "pets", ("age",)))]
+        for look, name in [
+            (("rows", "pets", None, None), "pets"), (("rows", "pets", (True,), ()), None), (("get", "pets", (True,)), None), (("drop", "pets", (False,)), None),
+            (("rows_by", "j", None, None), None), (("rows_by", "j", ("5",), None), None),
+        ]:
+            self.check([*again, look], [self.CHANGE], name)
+        again[1:] = [("make", ("pets", (("k", "truth"), ("sex", "number")), 1)), ("make_index", ("j", "pets", ("sex",)))]
+        self.check([*again, ("rows_by", "j", None, None)], [self.CHANGE], None)
 
 
 class Guards(unittest.TestCase):
@@ -477,6 +512,43 @@ class Rooms(unittest.TestCase):
             held = content(work)
             self.assertEqual(work.finish(), 1)
             self.assertEqual(content(base.begin()), held)
+
+
+class FewestCalls(unittest.TestCase):
+    """What a work comes to, done by calls that put nothing that is not there in the end."""
+
+    def test_any_calls(self):
+        words = ["put"] * 8 + ["drop"] * 4 + ["make", "make_index", "make_guard", "remove"]
+        saved = 0
+        for seed in range(80):
+            chosen = random.Random(4050 + seed)
+            serial = Serial()
+            start = [any_call(chosen, words + ["make"] * 3 + ["make_index"] * 3) for _ in range(chosen.choice((0, 20, 40)))]
+            serial.add(serial.run(0, start)[1], [])
+            before, tables, again = (serial.tables_behind(1) for _ in range(3))
+            ledger = Ledger(before)
+            calls = []
+            for call in [any_call(chosen, words) for _ in range(chosen.randint(0, 60))]:
+                if told(getattr(tables, call[0]), *call[1:]) in (None, True, False):
+                    calls.append(({"make_index": "make index", "make_guard": "make guard"}.get(call[0], call[0]), *call[1:]))
+                    ledger.take_in(calls[-1])
+            self.assertEqual(ledger.first_broken(), first_broken(content(tables)))
+            fewest = ledger.fewest_calls()
+            for call in fewest:
+                do_again(again, call)
+            self.assertEqual(content(again), content(tables))
+            # No row is put twice, and none that is dropped or taken away with its table.
+            puts = [call for call in fewest if call[0] == "put"]
+            self.assertTrue(all(tables.get(table, row[:len(key_of(tables, table))]) == row for _, table, row in puts))
+            self.assertEqual(len(set(puts)), len(puts))
+            saved += len(calls) - len(fewest)
+        self.assertGreater(saved, 300)
+
+
+def key_of(tables, table):
+    """The columns of the key of a table."""
+    name, columns, many = tables.schema_of(table)
+    return columns[:many]
 
 
 class Over(unittest.TestCase):
